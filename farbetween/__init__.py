@@ -1,0 +1,1 @@
+"""Farbetween: a house of chance machines within a tolerance, and sayings by worths that tell them apart."""
