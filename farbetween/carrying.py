@@ -1,8 +1,8 @@
 """Heaps, plans that carry one to another, and prices that show how cheap a plan can be."""
 
 from farbetween.errors import NoCosts, NoHeap
-from farbetween.pivots import cheapest_moves
-from farbetween.shares import Share, common_bottom, minus, sum_of, times, tops_over
+from farbetween.pivots import Haul
+from farbetween.shares import Share, common_bottom, minus, sum_of, tops_over
 
 MOST_PLACES = 12
 
@@ -58,8 +58,11 @@ def joined(rows):
 
 
 def weighed(shares, others):
-    """The sum of these shares, each times the other one at its place."""
-    return sum_of([times(one, other) for one, other in zip(shares, others)])
+    """The sum of these shares, each times the other one at its place; only the sum is put in lowest terms."""
+    unit = common_bottom(shares)
+    grain = common_bottom(others)
+    parts = [one * other for one, other in zip(tops_over(unit, shares), tops_over(grain, others))]
+    return Share(sum(parts), unit * grain)
 
 
 def cost_of(costs, plan):
@@ -83,9 +86,13 @@ def cheapest(costs, first, second):
         raise NoCosts("what is handed in as costs is none for these heaps")
     unit = common_bottom(joined(costs))
     grain = common_bottom(first + second)
-    moves, here, there = cheapest_moves(
-        [tops_over(unit, row) for row in costs], tops_over(grain, first), tops_over(grain, second)
-    )
-    plan = [[Share(amount, grain) for amount in row] for row in moves]
-    prices = ([Share(price, unit) for price in here], [Share(price, unit) for price in there])
-    return cost_of(costs, plan), plan, prices
+    whole_costs = [tops_over(unit, row) for row in costs]
+    haul = Haul(whole_costs, tops_over(grain, first), tops_over(grain, second))
+    plan = shares_over(haul.grain, haul.plan(len(first), len(second)))
+    here, there = shares_over(unit, haul.prices(whole_costs))
+    return cost_of(costs, plan), plan, (here, there)
+
+
+def shares_over(bottom, rows):
+    """The rows of shares that have these tops over this bottom."""
+    return [[Share(top, bottom) for top in row] for row in rows]

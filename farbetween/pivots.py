@@ -1,30 +1,55 @@
 """Cheapest carrying in whole numbers.
 
 Ways are tuples (row, column). A tree is a dict from ways to amounts above 0 that
-join all rows and columns without a ring. It is exchanged way by way for as long
-as that makes it cheaper.
+join all filled rows and columns without a ring. It is exchanged way by way for as
+long as that makes it cheaper.
 """
 
+from farbetween.shares import common_multiple
 
-def cheapest_moves(costs, first, second):
-    """A tuple (moves, here, there): a cheapest plan, and prices that bring just what it costs.
 
-    All numbers are whole; the amounts of both heaps are not below 0 and come to the same, above 0.
+class Haul:
+    """What is carried from one heap to another; kept from costs to costs, to be made cheaper by each of them.
+
+    grain is what the amounts of either heap come to, once both are counted in the same parts; moves is a
+    dict from ways to the amounts above 0 that go by them.
     """
-    rows = filled(first)
-    columns = filled(second)
-    inner = [[costs[row][column] for column in columns] for row in rows]
-    tree, prices = cheapest_tree(inner, [first[row] for row in rows], [second[column] for column in columns])
-    moves = [[0 for amount in second] for other in first]
-    for row, column in tree:
-        moves[rows[row]][columns[column]] = tree[(row, column)]
-    here, there = all_prices(costs, {row: prices[at] for at, row in enumerate(rows)})
-    return moves, here, there
+
+    def __init__(self, costs, first, second):
+        """Of two heaps, lists of whole amounts, none below 0 and not all 0; cheapest by these costs."""
+        self.grain = common_multiple(sum(first), sum(second))
+        self.tree = first_tree(costs, in_parts(first, self.grain), in_parts(second, self.grain))
+        self.moves = {}
+        self.cheapen(costs)
+
+    def cheapen(self, costs):
+        """Exchange ways for as long as that makes it cheaper by these costs."""
+        hung = hang(costs, self.tree)
+        gap, way = widest_gap(costs, hung)
+        while gap < 0:
+            exchange(self.tree, way, hung)
+            hung = hang(costs, self.tree)
+            gap, way = widest_gap(costs, hung)
+        self.moves = rounded(self.tree)
+
+    def paid(self, costs):
+        """What it costs by these costs, the grain being the whole."""
+        return sum([amount * costs[row][column] for (row, column), amount in self.moves.items()])
+
+    def plan(self, rows, columns):
+        """The amounts that are carried, in so many rows of so many."""
+        return [[self.moves.get((row, column), 0) for column in range(columns)] for row in range(rows)]
+
+    def prices(self, costs):
+        """A tuple (here, there): the prices that bring just what it costs, which is cheapest by these costs."""
+        here, there, ups, downs = hang(costs, self.tree)
+        return all_prices(costs, here)
 
 
-def filled(amounts):
-    """The places at which there is something."""
-    return [at for at, amount in enumerate(amounts) if amount > 0]
+def in_parts(amounts, grain):
+    """A dict from the filled places to what lies there, when all of it is counted in so many parts."""
+    part = grain // sum(amounts)
+    return {at: amount * part for at, amount in enumerate(amounts) if amount > 0}
 
 
 def all_prices(costs, known):
@@ -38,35 +63,39 @@ def all_prices(costs, known):
     return here, there
 
 
-def cheapest_tree(costs, first, second):
-    """A tuple (tree, prices): a cheapest tree and the prices of its rows; all amounts of the heaps are above 0.
+def first_tree(costs, lying, wanted):
+    """A tree for these amounts, each of them taken some units over, and each row with one more.
 
-    Each row gets one grain more, all of which the last column wants. So some rows, but not all, never
-    hold just what some columns want, no amount of a tree is ever 0, each exchange makes it cheaper,
-    and no tree comes again. An amount is off by fewer grains than half a unit, and is rounded in the end.
+    All of these the last column wants. So some rows, but not all, never hold just what some columns want,
+    no amount of a tree is ever 0, each exchange makes it cheaper, and no tree comes again.
     """
-    many = len(first)
-    unit = 2 * many + 1
-    wanted = [amount * unit for amount in second]
-    wanted[-1] += many
-    tree = greedy_tree(costs, [amount * unit + 1 for amount in first], wanted)
-    hung = hang(costs, tree)
-    gap, way = widest_gap(costs, hung)
-    while gap < 0:
-        exchange(tree, way, hung)
-        hung = hang(costs, tree)
-        gap, way = widest_gap(costs, hung)
-    here, there, ups, downs = hung
-    return {each: (tree[each] + many) // unit for each in tree}, here
+    many = len(lying)
+    unit = unit_for(many)
+    last = max(list(wanted))
+    more = {row: amount * unit + 1 for row, amount in lying.items()}
+    sought = {column: amount * unit for column, amount in wanted.items()}
+    sought[last] += many
+    return greedy_tree(costs, more, sought)
+
+
+def unit_for(many):
+    """How many times over amounts are taken for so many rows: an amount is off by less than half of this."""
+    return 2 * many + 1
+
+
+def rounded(tree):
+    """The amounts above 0 of a tree, as they would be without what the rows have more."""
+    many = len({row for row, column in tree})
+    amounts = {way: (amount + many) // unit_for(many) for way, amount in tree.items()}
+    return {way: amount for way, amount in amounts.items() if amount > 0}
 
 
 def greedy_tree(costs, first, second):
     """The tree that carries as much as it can by each way, the cheapest one first."""
-    lying = list(first)
-    wanted = list(second)
+    lying = dict(first)
+    wanted = dict(second)
     tree = {}
-    ways = [(line[column], row, column) for row, line in enumerate(costs) for column in range(len(line))]
-    for cost, row, column in sorted(ways):
+    for cost, row, column in sorted([(costs[row][column], row, column) for row in first for column in second]):
         amount = min(lying[row], wanted[column])
         if amount > 0:
             tree[(row, column)] = amount
@@ -76,14 +105,15 @@ def greedy_tree(costs, first, second):
 
 
 def hang(costs, tree):
-    """A tuple (here, there, ups, downs), dicts by row and by column, the tree being hung up by row 0.
+    """A tuple (here, there, ups, downs), dicts by row and by column, the tree being hung up by one of its rows.
 
     here and there are the prices of rows and columns that differ, on each way of the tree, by just
-    its cost; ups and downs the lists of ways from rows and from columns to row 0.
+    its cost; ups and downs the lists of ways from rows and from columns to the row it hangs by.
     """
-    here = {0: 0}
+    root = min([row for row, column in tree])
+    here = {root: 0}
     there = {}
-    ups = {0: []}
+    ups = {root: []}
     downs = {}
     waiting = list(tree)
     while waiting:
@@ -104,11 +134,7 @@ def hang(costs, tree):
 def widest_gap(costs, hung):
     """A tuple (gap, way): the least that a way costs above its prices' difference, and the way."""
     here, there, ups, downs = hung
-    return min([
-        (cost - here[row] + there[column], (row, column))
-        for row, line in enumerate(costs)
-        for column, cost in enumerate(line)
-    ])
+    return min([(costs[row][column] - here[row] + there[column], (row, column)) for row in here for column in there])
 
 
 def exchange(tree, way, hung):

@@ -26,17 +26,22 @@ class Share:
 
 
 def common_part(one, other):
-    """The greatest whole number that divides both, which are not both 0."""
+    """The greatest whole number that divides both; 0 where both are 0."""
     while other != 0:
         one, other = other, one % other
     return abs(one)
+
+
+def common_multiple(one, other):
+    """The least whole number above 0 that both, which are above 0, divide."""
+    return one // common_part(one, other) * other
 
 
 def common_bottom(shares):
     """The least whole number above 0 over which all of these can be written."""
     bottom = 1
     for share in shares:
-        bottom *= share.bottom // common_part(bottom, share.bottom)
+        bottom = common_multiple(bottom, share.bottom)
     return bottom
 
 
