@@ -43,23 +43,26 @@ def papers(fade, one, other):
 
 
 def paper_from_below(fade, meeting, rows, bottom):
-    """The prices, by the first sign that makes a pair as far apart as it is, for each pair that is apart at all."""
-    told = {}
-    for (x, y, sign), paid in meeting.all_paid(rows).items():
-        reached = fade.top * paid == fade.bottom * meeting.whole * rows[x][y]
-        if reached and rows[x][y] > 0 and (x, y) not in told:
-            here, there = shares_over(bottom, meeting.hauls[(x, y, sign)].prices(rows))
-            told[(x, y)] = (x, y, sign, (here, there))
-    return list(told.values())
+    """The prices, by a sign that makes a pair as far apart as it is, for each pair that is apart at all."""
+    signs = {
+        (x, y): sign
+        for (x, y, sign), paid in meeting.all_paid(rows).items()
+        if rows[x][y] > 0 and fade.top * paid == fade.bottom * meeting.whole * rows[x][y]
+    }
+    told = []
+    for (x, y), sign in signs.items():
+        here, there = shares_over(bottom, meeting.hauls[(x, y, sign)].prices(rows))
+        told.append((x, y, sign, (here, there)))
+    return told
 
 
-def are_paper_rows(thing, many):
-    """Whether this, which may be anything, is a list of so many tuples of two rooms, a sign and one thing more."""
-    return isinstance(thing, list) and len(thing) == many and all([is_paper_row(row) for row in thing])
+def are_paper_rows(thing):
+    """Whether this, which may be anything, is a list of tuples of two numbers, a text and one thing more."""
+    return isinstance(thing, list) and all([is_paper_row(row) for row in thing])
 
 
 def is_paper_row(thing):
-    """Whether it has numbers and a text where rooms and a sign should be: so that these may be compared."""
+    """Whether it has numbers and a text where rooms and a sign should be: other things are not even compared."""
     if not isinstance(thing, tuple) or len(thing) != 4:
         return False
     return is_whole(thing[0]) and is_whole(thing[1]) and isinstance(thing[2], str)
@@ -79,7 +82,7 @@ def is_above(thing, fade, one, other, table):
     if any([less(number, Share(1)) for number in of_unlike_menus(table, menus)]):
         return False
     wanted = [(x, y, sign) for (x, y), signs in menus.items() for sign in signs]
-    if not are_paper_rows(thing, len(wanted)) or [row[:3] for row in thing] != wanted:
+    if not are_paper_rows(thing) or [row[:3] for row in thing] != wanted:
         return False
     return all([holds_from_above(row, fade, one, other, table) for row in thing])
 
@@ -101,7 +104,7 @@ def is_below(thing, fade, one, other, table):
     if any([less(Share(1), number) for number in of_unlike_menus(table, menus)]):
         return False
     wanted = [(x, y) for x, y in menus if table[x][y].top > 0]
-    if not are_paper_rows(thing, len(wanted)) or [row[:2] for row in thing] != wanted:
+    if not are_paper_rows(thing) or [row[:2] for row in thing] != wanted:
         return False
     if not all([sign in menus[(x, y)] for x, y, sign, prices in thing]):
         return False

@@ -16,7 +16,7 @@ class Haul:
     """
 
     def __init__(self, costs, first, second):
-        """Of two heaps, lists of whole amounts, none below 0 and not all 0; cheapest by these costs."""
+        """Of two heaps of whole amounts, none below 0 and not all 0; it is cheapest by these costs."""
         self.grain = common_multiple(sum(first), sum(second))
         self.tree = first_tree(costs, in_parts(first, self.grain), in_parts(second, self.grain))
         self.moves = {}

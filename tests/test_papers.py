@@ -66,6 +66,13 @@ def shows_below(paper, fade, one, other, far):
     return True
 
 
+class Agreeing:
+    """A thing that says of itself that it is equal to whatever there is."""
+
+    def __eq__(self, other):
+        return True
+
+
 def replaced(things, at, thing):
     """These things, of their own kind, with another one in one place."""
     changed = list(things)
@@ -297,10 +304,10 @@ class Above(Case):
 
     def test_other_signs_and_rooms(self):
         for at, (x, y, sign, plan) in enumerate(self.above):
-            for other in ["a", "b", "c", "A", "", "ab", 0, None, b"a", ["a"], ("a",), True, Share(1)]:
-                if other != sign:
+            for other in ["a", "b", "c", "A", "", "ab", 0, None, b"a", ["a"], ("a",), True, Share(1), Agreeing()]:
+                if type(other) is not str or other != sign:
                     self.no_above(replaced(self.above, at, (x, y, other, plan)))
-            for other in [-1, 0, 1, 2, 3, 4, FORTY, True, False, None, "0", (), Share(0), Share(1)]:
+            for other in [-1, 0, 1, 2, 3, 4, FORTY, True, False, None, "0", (), Share(0), Share(1), Agreeing()]:
                 if other is not x:
                     self.no_above(replaced(self.above, at, (other, y, sign, plan)))
                 if other is not y:
@@ -509,9 +516,9 @@ class Below(Case):
 
     def test_other_signs_and_rooms(self):
         for at, (x, y, sign, prices) in enumerate(self.below):
-            for other in ["c", "A", "", "ab", 0, None, b"a", ["a"], ("a",), True, Share(1)]:
+            for other in ["c", "A", "", "ab", 0, None, b"a", ["a"], ("a",), True, Share(1), Agreeing()]:
                 self.no_below(replaced(self.below, at, (x, y, other, prices)))
-            for other in [-1, 0, 1, 2, 3, 4, FORTY, True, False, None, "0", (), Share(0), Share(1)]:
+            for other in [-1, 0, 1, 2, 3, 4, FORTY, True, False, None, "0", (), Share(0), Share(1), Agreeing()]:
                 if other is not x:
                     self.no_below(replaced(self.below, at, (other, y, sign, prices)))
                 if other is not y:
