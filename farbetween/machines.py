@@ -83,6 +83,14 @@ def heap(machine, room, sign):
     return None
 
 
+def doors_of(machine):
+    """For each room a dict, in order, from the signs of its menu to the weights of their steps."""
+    doors = [{} for room in range(machine.many)]
+    for room, sign, weights in machine.steps:
+        doors[room][sign] = weights
+    return doors
+
+
 def found_rooms(machine):
     """The rooms that can be come to from room 0, in the order in which they are found."""
     found = [0]

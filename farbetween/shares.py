@@ -50,6 +50,17 @@ def tops_over(bottom, shares):
     return [share.top * (bottom // share.bottom) for share in shares]
 
 
+def lowest_share(top, bottom):
+    """The share of a top and a bottom above 0 that are in lowest terms already.
+
+    Where both are long, it takes long to find out by looking for what divides them; so this isn't looked for.
+    """
+    share = Share(0)
+    share.top = top
+    share.bottom = bottom
+    return share
+
+
 def plus(one, other):
     return Share(one.top * other.bottom + other.top * one.bottom, one.bottom * other.bottom)
 

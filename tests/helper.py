@@ -51,6 +51,14 @@ def no_fades():
     ]
 
 
+def no_signs():
+    """Things that are no sign."""
+    return [thing for thing in anything() if thing != "a"] + [
+        0, 1, -1, "A", "aB", "abcdefghi", "a1", "a b", " a", "a ", "a,b", "-", "_", "a_b", "0", ("a",), ["a"], [["a"]], b"a",
+        {"a": "a"}, {"a"}, Share(1, 2), FORTY,
+    ]
+
+
 def shares(text):
     """The list of the shares that stand in this text, blanks between."""
     return [Share(*[int(number) for number in word.split("/")]) for word in text.split()]

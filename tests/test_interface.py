@@ -20,6 +20,12 @@ FUNCTIONS = {
         "apart(fade, one, other)", "distance(fade, one, other)", "papers(fade, one, other)",
         "is_above(thing, fade, one, other, table)", "is_below(thing, fade, one, other, table)",
     ],
+    "sayings": ["worths(book, fade, machine)", "worth(book, fade, machine)", "deep(book)", "telling(fade, one, other, depth)"],
+    "words": ["chance(machine, word)", "chances(machine, word)", "farthest_word(fade, one, other, long)"],
+    "joinings": [
+        "stop()", "ahead(sign, machine)", "toss(sign, weights, one, other)", "beside(shared, one, other)", "only(signs, machine)",
+        "rename(pairs, machine)",
+    ],
 }
 
 
