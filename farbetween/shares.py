@@ -1,6 +1,7 @@
 """Shares: exact fractions, and how they are reckoned with."""
 
 from farbetween.errors import NoShare
+from farbetween.figures import written
 from farbetween.kinds import is_whole
 
 
@@ -21,8 +22,8 @@ class Share:
 
     def __str__(self):
         if self.bottom == 1:
-            return str(self.top)
-        return f"{self.top}/{self.bottom}"
+            return f"{written(self.top)}"
+        return f"{written(self.top)}/{written(self.bottom)}"
 
 
 def common_part(one, other):

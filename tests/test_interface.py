@@ -1,9 +1,11 @@
-"""The interface, as far as it has been built: names, arguments, and where methods are defined."""
+"""The interface: names, arguments, and where methods are defined."""
 
 import importlib
 import inspect
 import unittest
 
+from farbetween.desk import Desk
+from farbetween.house import House
 from farbetween.machines import Machine
 from farbetween.shares import Share
 
@@ -26,7 +28,13 @@ FUNCTIONS = {
         "stop()", "ahead(sign, machine)", "toss(sign, weights, one, other)", "beside(shared, one, other)", "only(signs, machine)",
         "rename(pairs, machine)",
     ],
+    "recipes": ["read_recipe(text)", "show_recipe(recipe)", "made(recipe, parts)", "parts_of(recipe)", "bound(recipe, fade, drifts)"],
+    "texts": ["show(machine)", "read(text)"],
 }
+METHODS = [
+    "put(self, name, machine)", "keep(self, name, text)", "swap(self, name, machine, within)", "back(self)", "machine_of(self, name)",
+    "first(self, name)", "drift(self, name)", "text_of(self, name)", "parts(self)", "wholes(self)", "__len__(self)",
+]
 
 
 class Interface(unittest.TestCase):
@@ -50,6 +58,15 @@ class Interface(unittest.TestCase):
         self.assertEqual(list(vars(Machine(1, []))), ["many", "steps"])
         for method in ["__init__", "__eq__", "__len__"]:
             self.assertIn(method, vars(Machine))
+
+    def test_house_and_desk(self):
+        self.assertEqual(str(inspect.signature(House)), "(fade)")
+        self.assertEqual(str(inspect.signature(Desk)), "()")
+        for owner, methods in [(House, METHODS), (Desk, ["say(self, row)"])]:
+            self.assertEqual(owner.__bases__, (object,))
+            for each in methods:
+                method = vars(owner)[each.split("(")[0]]
+                self.assertEqual(method.__name__ + str(inspect.signature(method)), each)
 
 
 if __name__ == "__main__":
